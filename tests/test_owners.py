@@ -6,12 +6,9 @@ import unittest
 from leastlaid.errors import Faulty
 from leastlaid.owners import blank_lines, can_be_behind, is_line_comment, owned, spans_lines, written
 from leastlaid.reading import faults_of
-from leastlaid.rows import row_of, statement_spans, words_of
-from tests import plain, samples
-
-LINES = ("#", "# a", "#a", "## <* *>", "# '''")
-BLOCKS = ("<**>", "<* a *>", "<* # *>")
-TALL = ("<*\n*>", "<* a\n\nb *>", "<*#\n*>")
+from leastlaid.rows import words_of
+from tests import samples
+from tests.writing import BLOCKS, LINES, TALL, write
 
 
 def briefly(text):
@@ -217,53 +214,11 @@ class BlankLines(unittest.TestCase):
 class AnyTexts(unittest.TestCase):
     """Texts that are written word by word, keeping account of what is told of them."""
 
-    def write(self, program, source):
-        text, comments, empty = "", [], {}
-        row = row_of(program)
-        counted = {span[0] for span in statement_spans(program) if not span[3] and row[span[0] - 1] != "else"}
-        index, line = 0, None
-        first = None
-
-        def space(feeds):
-            pieces = [" " * source.randrange(3) for _ in range(feeds + 1)]
-            return "\n".join(pieces) or " "
-
-        for word, place in tuple(words_of(program)) + (("", len(row)),):
-            feeds = source.choice((0, 0, 0, 1, 1, 2, 3))
-            text += space(feeds)
-            for _ in range(source.choice((0, 0, 0, 1, 2))):
-                comment = source.choice(LINES + BLOCKS + TALL)
-                is_behind = text.count("\n") == line
-                comments.append((comment, plain.place(text, len(text)), index - is_behind, "behind" if is_behind else "ahead"))
-                if not is_behind and first is None:
-                    first = max(feeds - 1, 0)
-                text += comment + " " * source.randrange(3)
-                if comment in LINES:
-                    # The line has to end; it is a line feed that counts for what comes next.
-                    feeds = source.choice((1, 2, 3))
-                    text += "\n" * feeds
-                else:
-                    feeds = source.choice((0, 1, 2, 3))
-                    text += space(feeds)
-            is_word = place is not None
-            if first is None and (word == "(" or is_word and word):
-                first = max(feeds - 1, 0)
-            text += word
-            if is_word:
-                if place in counted or not word and program and first is not None:
-                    empty[place] = first
-                line = text.count("\n")
-                index += 1
-                first = None
-            elif word == ")":
-                first = None
-        return text, comments, empty
-
     def test_any_texts(self):
         for seed in range(1500):
             source = random.Random(seed)
             program = samples.any_block(source, 2)
-            text, comments, empty = self.write(program, source)
+            text, comments, empty = write(program, source)
             self.assertEqual(owned(text), comments, text)
             self.assertEqual(blank_lines(text), empty, text)
 
