@@ -45,12 +45,107 @@ POINT_17 = r"""
 [(('give', ('name', 'a')),), None, True, True, False]
 """
 
-# Those rows of the example behind point 19 that use leastlaid.owners alone.
-POINT_18 = r"""
+POINT_19 = r"""
 >>> from leastlaid.owners import blank_lines, can_be_behind, owned, spans_lines, written
+>>> from leastlaid.pages import bare, clipped, is_page, page_of, parted, text_of, put_together, same_page
 >>> text = "# top\nlet x = 1; # one  \n\n\n<* two *>\nset x =\n  # sum\n  (x + 2);\n# end"
 >>> owned(text)
 [('# top', (0, 0), 0, 'ahead'), ('# one', (1, 11), 4, 'behind'), ('<* two *>', (4, 0), 5, 'ahead'), ('# sum', (6, 2), 8, 'ahead'), ('# end', (8, 0), 12, 'ahead')]
+>>> page = page_of(text)
+>>> page[0]
+(('let', 'x', ('number', '1')), ('set', 'x', ('two', '+', ('name', 'x'), ('number', '2'))))
+>>> page[1:]
+({0: (('# top',), ()), 4: ((), ('# one',)), 5: (('<* two *>',), ()), 8: (('# sum',), ()), 12: (('# end',), ())}, {5: 2})
+>>> [blank_lines(text), clipped(page, 1)[2], clipped(page, 0)[2], bare(page)[1:]]
+[{5: 2, 12: 0}, {5: 1}, {}, ({}, {})]
+>>> print(text_of(clipped(parted(page)[0][0][1], 3)))
+# top
+let
+x
+=
+1
+; # one
+>>> parts, empty, comments = parted(page)
+>>> [len(parts), parts[1][0], parts[1][1][1], empty, comments]
+[2, 2, {0: (('<* two *>',), ()), 3: (('# sum',), ())}, 0, ('# end',)]
+>>> [same_page(put_together(parts, empty, comments), page), page_of(text_of(page)) == page, is_page(page), is_page((page[0], {}, {0: 1}))]
+[True, True, True, False]
 >>> [can_be_behind(("<* a *>", "# b")), can_be_behind(("# b", "<* a *>")), written("# one  "), spans_lines("# one"), spans_lines("<* a\nb *>")]
 [True, False, '# one', False, True]
+>>> page_of("# alone")
+((), {0: (('# alone',), ())}, {})
+"""
+
+POINT_22 = r"""
+>>> from leastlaid.badness import badness_of, best_by_all, compared, over_of, ranked, sum_of
+>>> from leastlaid.docs import choices_in, depth_of, flat_text, is_document, parts_in
+>>> from leastlaid.layouts import all_layouts, broken_by, layout_by, ways_by, ways_to
+>>> inner = ("nest", 2, ("row", (("line", ""), ("text", "alpha,"), ("line", " "), ("text", "beta"))))
+>>> call = ("group", ("row", (("text", "call("), inner, ("line", ""), ("text", ")"))))
+>>> [flat_text(call), parts_in(call), depth_of(call), choices_in(call), is_document(("nest", -1, call))]
+['call(alpha, beta)', 11, 5, 1, False]
+>>> all_layouts(call)
+[((0,), 'call(alpha, beta)'), ((1,), 'call(\n  alpha,\n  beta\n)')]
+>>> [badness_of(12, call, ()), badness_of(12, call, (1, 0, 1)), ways_by(call, (1, 0, 1)), broken_by(call, (1,))]
+[(5, 0, 0), (0, 3, 1), (1,), 1]
+>>> best_by_all(12, ("over", "lines", "broken"), call)
+((0, 3, 1), (1,), 'call(\n  alpha,\n  beta\n)')
+>>> best_by_all(12, ("lines", "over", "broken"), call)
+((5, 0, 0), (0,), 'call(alpha, beta)')
+>>> words = ("fill", (("text", "aa"), ("text", "bb"), ("text", "cc")))
+>>> [best_by_all(5, ("over", "lines", "broken"), words), choices_in(words), ways_to(words, "aa\nbb cc"), ways_to(words, "aabb cc")]
+[((0, 1, 0), (0, 1), 'aa bb\ncc'), 2, (1, 0), None]
+>>> tall = ("align", ("choice", ("row", (("text", "a"), ("hard",), ("text", "b"))), ("text", "ab")))
+>>> both = ("row", (("text", "x = "), tall, ("blank",), ("raw", ("'''p", "q'''"))))
+>>> [layout_by(both, ()), layout_by(both, (1,)), flat_text(both), flat_text(tall), badness_of(5, both, (1,))]
+["x = a\n    b\n\n'''p\nq'''", "x = ab\n\n'''p\nq'''", None, 'ab', (1, 3, 0)]
+>>> [over_of("abcd\nab\nabc", 2), sum_of((1, 2, 0), (0, 1, 1)), ranked(("lines", "broken", "over"), (5, 0, 1)), compared(("over", "lines", "broken"), (0, 3, 1), (0, 3, 2))]
+[3, (1, 3, 1), (0, 1, 5), -1]
+"""
+
+POINT_25 = r"""
+>>> from leastlaid.judge import has_layout, is_best, is_table
+>>> from leastlaid.stands import first_stand, moves
+>>> from leastlaid.tables import best_moves, laid, least_badness, stands_of, table_of, text_by
+>>> items = ("row", (("line", ""), ("text", "alpha,"), ("line", " "), ("text", "beta"), ("hard",)))
+>>> flat = ("row", (("line", ""), ("text", "alpha,"), ("line", " "), ("text", "beta"), ("line", "")))
+>>> call = ("group", ("row", (("text", "call("), ("nest", 2, flat[:1] + (flat[1][:4],)), ("line", ""), ("text", ")"))))
+>>> rank = ("over", "lines", "broken")
+>>> [laid(20, rank, call), laid(12, rank, call), least_badness(20, rank, call), least_badness(12, rank, call)]
+['call(alpha, beta)', 'call(\n  alpha,\n  beta\n)', (0, 0, 0), (0, 3, 1)]
+>>> [best_moves(20, rank, call), text_by(12, call, (0, 0)), has_layout(12, call, "call(alpha, beta)", (5, 0, 0))]
+[(0, 0), ('call(alpha, beta)', (5, 0, 0)), True]
+>>> [laid(12, ("lines", "broken", "over"), call), laid(12, rank, ("group", items)), laid(8, rank, ("align", items))]
+['call(alpha, beta)', 'alpha,\nbeta\n', 'alpha,\nbeta\n']
+>>> [len(moves(12, first_stand(call))), moves(12, first_stand(call))[1][:2], len(stands_of(12, call))]
+[2, ('', (0, 0, 1)), 14]
+>>> table = table_of(12, rank, call)
+>>> [table[0] == (first_stand(call), (0, 3, 1)), is_table(12, rank, call, table), is_table(12, rank, call, table[::-1])]
+[True, True, True]
+>>> worse = ((first_stand(call), (0, 3, 0)),) + table[1:]
+>>> [is_table(12, rank, call, worse), is_best(12, rank, call, "call(alpha, beta)", table), is_table(12, rank, call, ())]
+[False, False, False]
+>>> words = ("fill", (("text", "one"), ("text", "two"), ("text", "three"), ("text", "four")))
+>>> [laid(9, rank, words), laid(9, rank, ("nest", 2, words)), laid(20, rank, ("row", (("text", "x "), ("align", ("raw", ("a", "b")))))) ]
+['one two\nthree\nfour', '  one two\n  three\n  four', 'x a\nb']
+"""
+
+POINT_27 = r"""
+>>> from leastlaid.styles import fitting, is_style, named, needed_width, plain_style, style_of, style_with
+>>> from leastlaid.styletexts import laid, layer_between, layers_for, over, read_layer, same_style_paths, show_layer, style_for
+>>> style, rank = plain_style(), ("lines", "over", "broken")
+>>> [named(style)["rank"], style_of(named(style)) == style, needed_width("abc\nabcdefghi\n"), fitting(style, "abc\nabcdefghi\n")[0], fitting(style, "")[0]]
+[('over', 'lines', 'broken'), True, 9, 9, 8]
+>>> [style_with(style, "width", 40), style_with(style, "width", 7), is_style(style[:5]), is_style(style_with(style, "rank", rank))]
+[(40, 4, 1, ('over', 'lines', 'broken'), 'behind', 'rows'), None, False, True]
+>>> layer = read_layer("width=40 # narrow\n\n lists = fill\nrank = lines over broken")
+>>> [layer, show_layer(layer)]
+[{'lists': 'fill', 'rank': ('lines', 'over', 'broken'), 'width': 40}, 'width = 40\nrank = lines over broken\nlists = fill']
+>>> [laid(style, layer), layer_between(style, laid(style, layer)) == layer, over(layer, {"width": 60})["width"]]
+[(40, 4, 1, ('lines', 'over', 'broken'), 'behind', 'fill'), True, 60]
+>>> layers = {"": {"width": 100}, "lib": {"step": 2}, "lib/old": {"width": 30}}
+>>> [layers_for(layers, "lib/old/a.ll"), layers_for(layers, "library/a.ll"), style_for(style, layers, "lib/old/a.ll")[:2]]
+[[('', {'width': 100}), ('lib', {'step': 2}), ('lib/old', {'width': 30})], [('', {'width': 100})], (30, 2)]
+>>> same_style_paths(style, layers, ["lib/b", "a", "lib/a", "lib/old/a"])
+[('a',), ('lib/a', 'lib/b'), ('lib/old/a',)]
 """

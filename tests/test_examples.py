@@ -19,8 +19,17 @@ class Examples(unittest.TestCase):
     def test_point_17(self):
         self.run_example(examples.POINT_17, 14)
 
-    def test_point_18(self):
-        self.run_example(examples.POINT_18, 4)
+    def test_point_19(self):
+        self.run_example(examples.POINT_19, 14)
+
+    def test_point_22(self):
+        self.run_example(examples.POINT_22, 16)
+
+    def test_point_25(self):
+        self.run_example(examples.POINT_25, 17)
+
+    def test_point_27(self):
+        self.run_example(examples.POINT_27, 11)
 
 
 if __name__ == "__main__":

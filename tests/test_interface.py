@@ -22,6 +22,30 @@ INTERFACE = {
     "owners": (
         "is_line_comment(comment)", "spans_lines(comment)", "can_be_behind(comments)", "written(comment)", "owned(text)",
         "blank_lines(text)"),
+    "pages": (
+        "page_of(text)", "in_order(page)", "clipped(page, most)", "bare(page)", "put_together(parts, empty, comments)",
+        "is_page(thing)", "same_page(one, other)", "text_of(page)", "parted(page)"),
+    "docs": (
+        "is_document(thing)", "flat_text(document)", "parts_in(document)", "depth_of(document)", "choices_in(document)"),
+    "layouts": (
+        "layout_by(document, ways)", "ways_by(document, ways)", "broken_by(document, ways)", "all_layouts(document)",
+        "ways_to(document, text)"),
+    "badness": (
+        "is_rank(thing)", "is_badness(thing)", "over_of(text, width)", "badness_of(width, document, ways)", "sum_of(one, other)",
+        "ranked(rank, badness)", "compared(rank, one, other)", "best_by_all(width, rank, document)"),
+    "stands": ("first_stand(document)", "moves(width, stand)", "is_stand(thing)", "rest_size(stand)"),
+    "tables": (
+        "stands_of(width, document)", "table_of(width, rank, document)", "least_badness(width, rank, document)",
+        "best_moves(width, rank, document)", "text_by(width, document, places)", "laid(width, rank, document)"),
+    "judge": (
+        "is_table(width, rank, document, thing)", "has_layout(width, document, text, badness)",
+        "is_best(width, rank, document, text, thing)"),
+    "styles": (
+        "is_style(thing)", "plain_style()", "style_of(named)", "fitting(style, text)", "style_with(style, word, value)",
+        "named(style)", "needed_width(text)"),
+    "styletexts": (
+        "is_layer(thing)", "laid(style, layer)", "style_for(style, layers, path)", "over(below, above)", "layer_between(one, other)",
+        "read_layer(text)", "show_layer(layer)", "layers_for(layers, path)", "same_style_paths(style, layers, paths)"),
 }
 
 
@@ -78,8 +102,20 @@ class Unchanged(unittest.TestCase):
             self.assertIsNot(one, other)
             one.clear()
             self.assertEqual(function(argument), other)
+        self.hold_documents()
         tokens = cut("()")[0]
         self.assertIsNot(paired("()", tokens)[0], paired("()", tokens)[0])
+
+    def hold_documents(self):
+        from leastlaid.layouts import all_layouts
+        from leastlaid.stands import moves
+        from leastlaid.tables import stands_of
+        document = ("group", ("fill", (("text", "a"), ("text", "b"))))
+        for function in (all_layouts, lambda one: moves(8, (None, ((0, one),))), lambda one: stands_of(8, one)):
+            one, other = function(document), function(document)
+            self.assertEqual(one, other)
+            one.clear()
+            self.assertEqual(function(document), other)
 
 
 if __name__ == "__main__":

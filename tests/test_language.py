@@ -59,29 +59,33 @@ class Language(unittest.TestCase):
     def test_module_level(self):
         for path, tree in self.trees():
             bound = []
+            # Parameters and variables must not have these names; those of functions they may have.
+            taken = []
             for at, node in enumerate(tree.body):
                 self.assertIsInstance(node, (ast.Expr, ast.ImportFrom, ast.FunctionDef, ast.ClassDef, ast.Assign))
                 if isinstance(node, ast.Expr):
                     self.assertEqual(at, 0)
                 elif isinstance(node, ast.ImportFrom):
                     bound += [alias.name for alias in node.names]
+                    taken += [alias.name for alias in node.names]
                 elif isinstance(node, ast.Assign):
                     bound += [target.id for target in node.targets]
                     inner = list(ast.walk(node.value))[1:]
                     self.assertFalse([part for part in inner if isinstance(part, (ast.List, ast.Dict, ast.Call))])
                 else:
                     bound.append(node.name)
+                    taken += [node.name] if isinstance(node, ast.ClassDef) else []
             self.assertEqual(len(bound), len(set(bound)), path)
             for node in ast.walk(tree):
                 if isinstance(node, ast.arg):
-                    self.assertNotIn(node.arg, bound, path)
+                    self.assertNotIn(node.arg, taken, path)
                 elif isinstance(node, ast.Name) and isinstance(node.ctx, ast.Store):
                     outside = [part for part in tree.body if isinstance(part, ast.Assign) and node in part.targets]
-                    self.assertTrue(outside or node.id not in bound, (path, node.id))
+                    self.assertTrue(outside or node.id not in taken, (path, node.id))
 
     def test_names_and_nodes(self):
+        methods = [node.name for _, tree in self.trees() for node in ast.walk(tree) if isinstance(node, ast.FunctionDef)]
         for path, tree in self.trees():
-            methods = [node.name for node in ast.walk(tree) if isinstance(node, ast.FunctionDef)]
             for node in ast.walk(tree):
                 self.assertNotIsInstance(node, NOT_THERE, path)
                 if isinstance(node, ast.Name) and node.id in NAMES:
