@@ -10,7 +10,7 @@ from tests.values import OTHERS, STRANGE
 WRONG = (
     (), [], "text", ("text",), ("text", "a", "b"), ("text", None), ("text", 1), ("text", True), ("text", ("a",)), ("text", "a\nb"),
     ("text", "\n"), ["text", "a"], ("Text", "a"), ("texts", "a"), (True, "a"), (None,), (A,), (("text",), "a"), ("text", ["a"]),
-    ("line",), ("line", "  "), ("line", "a"), ("line", "\n"), ("line", None), ("line", True), ("line", 0), ("line", ""[:0], ""),
+    ("line",), ("line", "  "), ("line", "a"), ("line", "\n"), ("line", None), ("line", True), ("line", 0), ("line", "", ""),
     ("line", ()), ("hard", ""), ("hard", ()), ("hard", A), ["hard"], "hard", ("hard", None), ("blank", ""), ("blank", 1), ["blank"],
     ("nest",), ("nest", 1), ("nest", A), ("nest", -1, A), ("nest", True, A), ("nest", False, A), ("nest", "1", A), ("nest", None, A),
     ("nest", (), A), ("nest", A, 1), ("nest", 1, None), ("nest", 1, "a"), ("nest", 1, A, B), ("nest", 1, (A,)), ("nest", 1, [A]),

@@ -176,7 +176,10 @@ class IsPage(unittest.TestCase):
             self.check((thing, {}, {}), thing == ())
             self.check(((), thing, {}), thing == {})
             self.check(((), {}, thing), thing == {})
-            self.check(((), {thing: ((), ("# a",))} if isinstance(thing, (str, int)) else thing, {}), thing == {})
+            if isinstance(thing, (str, int)) or thing is None:
+                self.check(((), {thing: (("# a",), ())}, {}), thing == 0 and thing is not False)
+            self.check(((), {0: thing}, {}), False)
+            self.check(((), {0: ((thing,), ())}, {}), False)
         program = page_of("a;")[0]
         for thing in (
                 [program, {}, {}], (program, {}), (program, {}, {}, {}), (program, {}, None), (list(program), {}, {}),
@@ -223,7 +226,7 @@ class IsPage(unittest.TestCase):
         for index in begins:
             for many in (1, 2, 3, 10 ** 30):
                 self.check((program, {}, {index: many}), True)
-            for many in (0, -1, True, False, None, "1", (1,), [], 1 == 1):
+            for many in (0, -1, True, False, None, "1", (1,), []):
                 self.check((program, {}, {index: many}), False)
         for index in (True, False, None, "2", "if", (2,), ()):
             self.check((program, {}, {index: 1}), False)
