@@ -62,7 +62,7 @@ def _is_right(width, rank, ledger, told, spot):
     return ranked(rank, told[spot]) == min(sums)
 
 
-def _first_told(width, rank, document, thing):
+def told_badness(width, rank, document, thing):
     """Return the badness that any value tells at the first stand of a document, None if it is no table of it."""
     ledger = Ledger()
     told = _told_by(ledger, thing)
@@ -76,7 +76,7 @@ def _first_told(width, rank, document, thing):
 
 def is_table(width, rank, document, thing):
     """Tell whether any value tells the least badness at each stand of a document, and at all that it tells of."""
-    return _first_told(width, rank, document, thing) is not None
+    return told_badness(width, rank, document, thing) is not None
 
 
 def has_layout(width, document, text, badness):
@@ -104,5 +104,5 @@ def has_layout(width, document, text, badness):
 
 def is_best(width, rank, document, text, thing):
     """Tell whether any value is a table of a document, and some LAYOUT has the text and the badness it tells."""
-    badness = _first_told(width, rank, document, thing)
+    badness = told_badness(width, rank, document, thing)
     return badness is not None and has_layout(width, document, text, badness)

@@ -26,12 +26,15 @@ def can_be_behind(comments):
     return not any([is_line_comment(comment) or spans_lines(comment) for comment in comments[:-1]])
 
 
-def _marked(text, groups):
-    """Return the list of tuples (mark, word, begin, index) for all words of a text.
+def marked(text):
+    """Return the program of a text, and the list of tuples (mark, word, begin, index) for all its words.
 
     The mark is "group" of a grouping bracket, "ahead" or "behind" of a comment, else "word". The
     index is that in the ROW, of a comment that of its OWNER, of a bracket that of the next word.
     """
+    faults, program, groups = read_text(text)
+    if faults:
+        raise Faulty(faults)
     grouping = set(groups)
     found = []
     index = 0
@@ -48,17 +51,14 @@ def _marked(text, groups):
             found.append(("behind", word, begin, index - 1))
         else:
             found.append(("ahead", word, begin, index))
-    return found
+    return program, found
 
 
 def owned(text):
     """Return the list of all comments of a text, each with its place, its OWNER and its side."""
-    faults, _, groups = read_text(text)
-    if faults:
-        raise Faulty(faults)
     return [
         (written(word), place_of(text, begin), index, mark)
-        for mark, word, begin, index in _marked(text, groups)
+        for mark, word, begin, index in marked(text)[1]
         if mark in ("ahead", "behind")
     ]
 
@@ -69,14 +69,14 @@ def _empty_lines(text, begin):
     return max(text.count("\n", len(bare), begin) - 1, 0)
 
 
-def _first_begins(text, groups):
+def _first_begins(marks):
     """Return the dict from indexes of words to the indexes of the signs where they, or what is ahead, begin.
 
     The END is in it if it has comments. It means something of first words of statements and of the END
     alone: ahead of others a grouping bracket may be closed.
     """
     found = {}
-    for mark, _, begin, index in _marked(text, groups):
+    for mark, _, begin, index in marks:
         if mark != "behind" and index not in found:
             found[index] = begin
     return found
@@ -84,11 +84,9 @@ def _first_begins(text, groups):
 
 def blank_lines(text):
     """Return the dict from the words ahead of which empty lines are counted to how many there are."""
-    faults, program, groups = read_text(text)
-    if faults:
-        raise Faulty(faults)
+    program, marks = marked(text)
     row = row_of(program)
-    begins = _first_begins(text, groups)
+    begins = _first_begins(marks)
     counted = [
         begin for begin, _, _, is_first in statement_spans(program)
         if not is_first and row[begin - 1] != "else"

@@ -149,3 +149,121 @@ POINT_27 = r"""
 >>> same_style_paths(style, layers, ["lib/b", "a", "lib/a", "lib/old/a"])
 [('a',), ('lib/a', 'lib/b'), ('lib/old/a',)]
 """
+
+POINT_29 = r"""
+>>> from leastlaid.formatting import formatted, formatted_page, is_paper, joined_shares, least_of, paper_of, shares_of
+>>> from leastlaid.pages import page_of
+>>> style = (30, 2, 1, ("over", "lines", "broken"), "ahead", "rows")
+>>> text = "let total=alpha+beta*(gamma+delta)-epsilon;\n\n\n\n# go\nif total>0{give f(total,[1,2]);}else{}"
+>>> print(formatted(text, style), end="")
+let total = alpha
+  + beta * (gamma + delta)
+  - epsilon;
+
+# go
+if total > 0 {
+  give f(total, [1, 2]);
+} else {}
+>>> [formatted(formatted(text, style), style) == formatted(text, style), page_of(formatted(text, style))[2], page_of(text)[2]]
+[True, {13: 1}, {13: 3}]
+>>> wide = (40, 4, 0, ("over", "lines", "broken"), "behind", "fill")
+>>> print(formatted("set xs = [100, 200, 300, 400, 500, 600, 700, 800, 900];\nf(x # why\n, y);", wide), end="")
+set xs = [
+    100, 200, 300, 400, 500, 600, 700,
+    800, 900
+];
+f(
+    x # why
+    ,
+    y
+);
+>>> page = page_of(text)
+>>> [len(shares_of(page, style)), joined_shares(page, style, shares_of(page, style)) == formatted(text, style), least_of(page, style)]
+[2, True, (0, 8, 1)]
+>>> paper = paper_of(page, style)
+>>> [is_paper(page, style, formatted(text, style), paper), is_paper(page, style, formatted(text, style) + "\n", paper), is_paper(page, style, "", ())]
+[True, False, False]
+>>> [formatted("", style), formatted("# a\n\n# b", style), formatted("(fn(x)->x)(1)  ;", style)]
+['', '# a\n# b\n', '(fn(x) -> x)(1);\n']
+"""
+
+POINT_32 = r"""
+>>> from leastlaid.checker import check, is_formatted, report, touched_lines
+>>> from leastlaid.edits import all_changed, changes_to, edits_of, gaps_of, items_of
+>>> from leastlaid.ranges import bundles, format_bundles, format_lines, met
+>>> style = (40, 2, 1, ("over", "lines", "broken"), "ahead", "fill")
+>>> text = "let a=1;\n\n\nset  b = (2);# x\nf( a );let c=3;"
+>>> [bundles(text), met(text, 1, 3), met(text, 1, 2)]
+[[(0, 0, (0,)), (3, 3, (1,)), (4, 4, (2, 3))], (1,), ()]
+>>> format_lines(text, style, 3, 3)
+'let a=1;\n\nset b = 2; # x\nf( a );let c=3;'
+>>> format_bundles(text, style, (0, 2))
+'let a = 1;\n\n\nset  b = (2);# x\nf(a);\nlet c = 3;\n'
+>>> whole = format_bundles(text, style, (0, 1, 2))
+>>> whole
+'let a = 1;\n\nset b = 2; # x\nf(a);\nlet c = 3;\n'
+>>> [items_of(text)[9:13], gaps_of(text)[0], gaps_of(text)[8], len(edits_of(text, style)), edits_of(text, style)[4]]
+[(';', '# x', 'f', '('), (0, 0), (19, 21), 13, (19, 21, ' ')]
+>>> [all_changed(text, edits_of(text, style)) == whole, changes_to(text, "let a = 1;"), changes_to("f (a);", "f(a)  ;")]
+[True, None, [(1, 2, ''), (5, 5, '  ')]]
+>>> [check(text, style)[0], check(text, style)[4], report(text, style)[4], touched_lines(text, style)]
+[((0, 5), 'blanks', ' '), ((3, 8), 'brackets', ' '), '4:9: brackets', (0, 1, 2, 3, 4)]
+>>> [is_formatted(whole, style), check(whole, style), check("let 1;", style), report("let 1;", style), is_formatted("let 1;", style)]
+[True, [], [((0, 4), 'fault', 'name')], ['1:5: fault name'], False]
+"""
+
+POINT_34 = r"""
+>>> from leastlaid.changes import back_of, change_between, changed, changed_by
+>>> from leastlaid.keeper import Keeper
+>>> [changed("let a=1;", (4, 5, "ab")), changed_by("ab", [(0, 1, ""), (1, 1, "cc")]), change_between("one two", "one three two")]
+['let ab=1;', 'bcc', (5, 5, 'hree t')]
+>>> [back_of("let a=1;", (4, 5, "ab")), change_between("same", "same"), change_between("aa", "a")]
+[(4, 6, 'a'), (4, 4, ''), (1, 2, '')]
+>>> style = (40, 2, 1, ("over", "lines", "broken"), "ahead", "fill")
+>>> keeper = Keeper("let a=1;\nset a=a+1;", style)
+>>> [keeper.formatted(), keeper.laid_out(), keeper.faults()]
+['let a = 1;\nset a = a + 1;\n', 2, ()]
+>>> [keeper.change((9, 9, "\n\n\n# up\n")), keeper.formatted(), keeper.laid_out()]
+[None, 'let a = 1;\n\n# up\nset a = a + 1;\n', 3]
+>>> [keeper.change((0, 0, "let a = 1; ")), keeper.laid_out(), keeper.formatted()[:22], keeper.undo(), keeper.undo(), keeper.laid_out()]
+[None, 3, 'let a = 1;\nlet a = 1;\n', None, None, 3]
+>>> [keeper.change((0, 3, "(")), keeper.last_formatted() == "let a = 1;\nset a = a + 1;\n", len(keeper.faults()) > 0, keeper == keeper.twin()]
+[None, True, True, True]
+"""
+
+POINT_35 = r"""
+>>> from leastlaid.project import Project, after_writes, bad_styles, layers_in, style_at, wanted_files, words_for, writes_for
+>>> style = (80, 4, 1, ("over", "lines", "broken"), "behind", "rows")
+>>> files = {"a": "let x=1;", "lib/b": "if x{f();}", "lib/c": "let", "lib/style": "step = 2", "old/style": "step = 9", "d": "give;\n"}
+>>> [layers_in(files), bad_styles(files), style_at(files, style, "lib/b")[:2]]
+[{'lib': {'step': 2}}, [('old/style', 0)], (80, 2)]
+>>> words_for(files, style)
+{'a': 'changed', 'd': 'same', 'lib/b': 'changed', 'lib/c': 'faulty', 'lib/style': 'style', 'old/style': 'bad'}
+>>> writes = writes_for(files, style)
+>>> writes
+[('a', 'let x = 1;\n'), ('lib/b', 'if x {\n  f();\n}\n')]
+>>> half = after_writes(files, writes, 1)
+>>> [writes_for(half, style) == writes[1:], after_writes(half, writes_for(half, style), 9) == wanted_files(files, style)]
+[True, True]
+>>> project = Project(files, style)
+>>> [project.left(), project.run(1), project.word("a"), project.put("lib/c", "let y = 2;\n"), project.run(9), project.left()]
+[2, ['a'], 'same', None, ['lib/b'], 0]
+>>> [project.drop("lib/style"), project.word("lib/b"), project.run(9), project.files()["lib/b"]]
+[None, 'changed', ['lib/b'], 'if x {\n    f();\n}\n']
+"""
+
+POINT_36 = r"""
+>>> from leastlaid.desk import Desk
+>>> style = (20, 2, 1, ("over", "lines", "broken"), "ahead", "rows")
+>>> desk = Desk({"old/style": "width = 60"}, style)
+>>> [desk.execute("put a let x=alpha+beta+gamma; # sum"), desk.execute("put old/b f(1,\\n2);"), desk.execute("words")]
+[['done'], ['done'], ['a changed', 'old/b changed', 'old/style style']]
+>>> [desk.execute("want a"), desk.execute("worse a"), desk.execute("notes a"), desk.execute("show old/b")]
+[['let x = alpha', '  + beta', '  + gamma; # sum', ''], ['0 3 1 1'], ['0 24 behind 8'], ['f(1,', '2);']]
+>>> [desk.execute("style old/b")[0], desk.execute("style a")[0], desk.execute("run 1"), desk.execute("left"), desk.execute("words")[0]]
+['width = 60', 'width = 20', ['a'], ['1'], 'a same']
+>>> [desk.execute("edit a 4 5 total"), desk.execute("show a")[0], desk.execute("range old/b 0 0"), desk.execute("show old/b"), desk.execute("run 9")]
+[['done'], 'let total = alpha', ['done'], ['f(1, 2);', ''], []]
+>>> [desk.execute("put c give"), desk.execute("words")[1], desk.execute("check a"), desk.twin() == desk, desk.execute("drop c"), desk.project().left()]
+[['done'], 'c faulty', [], True, ['done'], 0]
+"""

@@ -8,7 +8,9 @@ from tests import examples
 
 class Examples(unittest.TestCase):
     def run_example(self, text, many):
-        test = doctest.DocTestParser().get_doctest(text, {}, "example", None, 0)
+        # What is shown of one example ends where the next one begins; an empty line in it has to be marked.
+        marked = "\n".join(line or "<BLANKLINE>" for line in text.strip("\n").split("\n")) + "\n"
+        test = doctest.DocTestParser().get_doctest(marked, {}, "example", None, 0)
         told = []
         result = doctest.DocTestRunner(verbose=False).run(test, out=told.append)
         self.assertEqual((result.failed, result.attempted), (0, many), "".join(told))
@@ -30,6 +32,21 @@ class Examples(unittest.TestCase):
 
     def test_point_27(self):
         self.run_example(examples.POINT_27, 11)
+
+    def test_point_29(self):
+        self.run_example(examples.POINT_29, 13)
+
+    def test_point_32(self):
+        self.run_example(examples.POINT_32, 14)
+
+    def test_point_34(self):
+        self.run_example(examples.POINT_34, 10)
+
+    def test_point_35(self):
+        self.run_example(examples.POINT_35, 12)
+
+    def test_point_36(self):
+        self.run_example(examples.POINT_36, 8)
 
 
 if __name__ == "__main__":

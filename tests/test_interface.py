@@ -46,6 +46,33 @@ INTERFACE = {
     "styletexts": (
         "is_layer(thing)", "laid(style, layer)", "style_for(style, layers, path)", "over(below, above)", "layer_between(one, other)",
         "read_layer(text)", "show_layer(layer)", "layers_for(layers, path)", "same_style_paths(style, layers, paths)"),
+    "printing": ("document_of(page, style)",),
+    "formatting": (
+        "formatted(text, style)", "formatted_page(page, style)", "joined_shares(page, style, shares)",
+        "statement_documents(page, style)", "shares_of(page, style)", "paper_of(page, style)", "least_of(page, style)",
+        "is_paper(page, style, other, thing)"),
+    "ranges": (
+        "bundles(text)", "met(text, first, last)", "format_bundles(text, style, lot)", "format_lines(text, style, first, last)"),
+    "edits": (
+        "gaps_of(text)", "items_of(text)", "all_changed(text, changes)", "changes_to(text, other)", "edits_of(text, style)"),
+    "checker": (
+        "check(text, style)", "report(text, style)", "is_formatted(text, style)", "touched_lines(text, style)",
+        "with_most_over(text, style)"),
+    "changes": (
+        "changed(text, change)", "changed_by(text, changes)", "change_between(one, other)", "back_of(text, change)"),
+    "keeper": ("Keeper(text, style)",),
+    "project": (
+        "layers_in(files)", "wanted_files(files, style)", "after_writes(files, writes, many)", "words_for(files, style)",
+        "style_at(files, style, path)", "bad_styles(files)", "writes_for(files, style)", "Project(files, style)"),
+    "desk": ("Desk(files, style)",),
+}
+METHODS = {
+    ("keeper", "Keeper"): (
+        "text()", "style()", "faults()", "formatted()", "last_formatted()", "change(change)", "restyle(style)", "undo()",
+        "take_over()", "laid_out()", "twin()", "__eq__(other)"),
+    ("project", "Project"): (
+        "put(path, text)", "drop(path)", "files()", "word(path)", "run(many)", "left()", "twin()", "__eq__(other)"),
+    ("desk", "Desk"): ("execute(line)", "project()", "twin()", "__eq__(other)"),
 }
 
 
@@ -62,6 +89,15 @@ class Interface(unittest.TestCase):
                 self.assertEqual(thing.__module__, "leastlaid." + name)
                 if arguments:
                     self.assertEqual(list(inspect.signature(thing).parameters), arguments.split(", "))
+
+    def test_methods_stand_in_their_classes(self):
+        for (name, kind), listed in METHODS.items():
+            thing = getattr(importlib.import_module("leastlaid." + name), kind)
+            for signature in listed:
+                method, _, arguments = signature.rstrip(")").partition("(")
+                self.assertIn(method, vars(thing))
+                expected = ["self"] + [argument for argument in arguments.split(", ") if argument]
+                self.assertEqual(list(inspect.signature(vars(thing)[method]).parameters), expected)
 
     def test_init_is_empty(self):
         self.assertEqual((PACKAGE / "__init__.py").read_bytes(), b"")

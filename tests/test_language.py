@@ -11,6 +11,7 @@ METHODS = set(
     "append clear copy count endswith extend find get index insert isalnum isalpha isdigit islower isspace isupper items join "
     "keys ljust lower lstrip partition pop remove replace reverse rfind rjust rpartition rsplit rstrip setdefault split "
     "splitlines startswith strip update upper values zfill bit_length add discard".split())
+BARRED = set("sort args encode decode hex fromhex format discard".split())
 BUILTINS = set(
     "len range enumerate zip min max sum abs sorted reversed int str bool bytes list tuple dict set frozenset isinstance ord "
     "repr any all divmod pow getattr hasattr setattr iter next map super NotImplemented Exception ValueError TypeError "
@@ -82,6 +83,48 @@ class Language(unittest.TestCase):
                 elif isinstance(node, ast.Name) and isinstance(node.ctx, ast.Store):
                     outside = [part for part in tree.body if isinstance(part, ast.Assign) and node in part.targets]
                     self.assertTrue(outside or node.id not in taken, (path, node.id))
+
+    def test_own_names(self):
+        """What is added to stored sets would be taken for a method of that name; attributes are no methods of their class."""
+        for path, tree in self.trees():
+            for node in ast.walk(tree):
+                if not isinstance(node, ast.ClassDef):
+                    continue
+                methods = [part.name for part in node.body if isinstance(part, ast.FunctionDef)]
+                stored = [part.attr for part in ast.walk(node) if isinstance(part, ast.Attribute) and isinstance(part.ctx, ast.Store)]
+                self.assertEqual(len(methods), len(set(methods)))
+                self.assertFalse(set(methods) & set(stored), path)
+                self.assertFalse((set(methods) | set(stored)) & (METHODS | BARRED), path)
+                for name in methods:
+                    self.assertTrue(not name.startswith("__") or name in ("__init__", "__eq__"), (path, name))
+
+    def test_nothing_is_iterated_later(self):
+        """Where a class compares, all, any and the like take lists; and no row of calls is kept."""
+        for path, tree in self.trees():
+            for node in ast.walk(tree):
+                self.assertNotIsInstance(node, (ast.GeneratorExp, ast.Yield, ast.YieldFrom, ast.Set, ast.Match, ast.With), path)
+                if isinstance(node, ast.Assign) and isinstance(node.value, ast.Call):
+                    called = node.value.func
+                    name = called.id if isinstance(called, ast.Name) else called.attr
+                    self.assertNotIn(name, ("zip", "enumerate", "reversed", "range", "items", "keys", "values"), path)
+
+    def test_tries_and_raises(self):
+        kinds = {node.name for node in ast.parse((PACKAGE / "errors.py").read_text()).body if isinstance(node, ast.ClassDef)}
+        for path, tree in self.trees():
+            for node in ast.walk(tree):
+                if isinstance(node, ast.ExceptHandler):
+                    self.assertIn(node.type.id, kinds - {"LaidError"})
+                if isinstance(node, ast.Raise):
+                    self.assertIn(node.exc.func.id, kinds - {"LaidError"})
+
+    def test_exponents_and_docstrings(self):
+        for path, tree in self.trees():
+            self.assertTrue(path.name == "__init__.py" or ast.get_docstring(tree), path)
+            for node in ast.walk(tree):
+                if isinstance(node, ast.BinOp) and isinstance(node.op, ast.Pow):
+                    self.assertTrue(0 <= node.right.value <= 64)
+                if isinstance(node, ast.Call):
+                    self.assertFalse([part for part in node.keywords if part.arg not in ("key", "default", "reverse", "start")])
 
     def test_names_and_nodes(self):
         methods = [node.name for _, tree in self.trees() for node in ast.walk(tree) if isinstance(node, ast.FunctionDef)]

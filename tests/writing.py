@@ -1,7 +1,9 @@
 """Texts that are written word by word, keeping account of what is told of them."""
 
+import random
+
 from leastlaid.rows import row_of, statement_spans, words_of
-from tests import plain
+from tests import plain, samples
 
 LINES = ("#", "# a", "#a", "## <* *>", "# '''")
 BLOCKS = ("<**>", "<* a *>", "<* # *>")
@@ -61,3 +63,40 @@ def page_told(program, comments, empty):
         program,
         {index: tuple(tuple(part) for part in notes[index]) for index in sorted(notes)},
         {index: empty[index] for index in sorted(empty) if empty[index]})
+
+
+def bracketed(program, source):
+    """The words of a program with needless grouping brackets here and there, as one text."""
+    told = plain.PlainRow(program)
+    pieces = [["", word, ""] for word in told.row]
+    for begin, end in told.ranges:
+        many = source.choice((0, 0, 0, 1, 2))
+        pieces[begin][0] += "(" * many
+        pieces[end - 1][2] += ")" * many
+    index = 0
+    ahead = ""
+    for word, place in words_of(program):
+        if place is not None:
+            pieces[place][0] += ahead
+            index, ahead = place, ""
+        elif word == "(":
+            ahead += word
+        else:
+            pieces[index][2] += word
+    return source.choice((" ", "\n", "  ")).join(" ".join(piece) for piece in pieces)
+
+
+def any_style(source):
+    """A style, by a source of random numbers."""
+    rank = ["over", "lines", "broken"]
+    source.shuffle(rank)
+    return (source.choice((8, 9, 11, 14, 20, 30, 40, 60, 80, 100, 120)), source.randrange(9), source.randrange(4),
+            tuple(rank), source.choice(("ahead", "behind")), source.choice(("fill", "rows")))
+
+
+def any_text(seed, deep=2, blocks=1):
+    """A text with comments and empty lines here and there, and its page; more blocks make more statements."""
+    source = random.Random(seed)
+    program = sum((samples.any_block(source, deep) for _ in range(blocks)), ())
+    text, comments, empty = write(program, source)
+    return text, page_told(program, comments, empty)
