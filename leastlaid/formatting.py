@@ -61,14 +61,9 @@ def paper_of(page, style):
     return tuple([table_of(style[0], style[3], document) for document in statement_documents(page, style)])
 
 
-def _index_behind(text, begin, many):
-    """Return the index behind so many lines of a text from an index on, that of its end if there are fewer."""
-    at = begin
-    for _ in range(many):
-        at = text.find("\n", at) + 1
-        if at == 0:
-            return len(text)
-    return at
+def _lines_from(text, begin, many):
+    """Return so many lines of a text from an index on, each with its line feed, as if there were one at the end."""
+    return "".join([line + "\n" for line in text[begin:].split("\n")[:many]])
 
 
 def is_paper(page, style, other, thing):
@@ -76,8 +71,8 @@ def is_paper(page, style, other, thing):
     documents = statement_documents(page, style)
     if not isinstance(thing, tuple) or len(thing) != len(documents):
         return False
-    shares = []
     ahead, _ = _between(page, style)
+    shares = []
     begin = 0
     for lines, document, table in zip(ahead, documents, thing):
         badness = told_badness(style[0], style[3], document, table)
@@ -85,9 +80,9 @@ def is_paper(page, style, other, thing):
             return False
         # Each share ends with a line, so the table tells where the next one begins.
         begin += len(lines)
-        behind = _index_behind(other, begin, badness[1])
-        if not has_layout(style[0], document, other[begin:behind], badness):
+        share = _lines_from(other, begin, badness[1])
+        if not has_layout(style[0], document, share, badness):
             return False
-        shares.append(other[begin:behind])
-        begin = behind
+        shares.append(share)
+        begin += len(share)
     return joined_shares(page, style, shares) == other

@@ -42,7 +42,8 @@ class Keeper:
         parts, _, comments = parted(page)
         shares = [self._share(part) for _, part in parts]
         if comments:
-            self._known[(self._style, comments)] = "".join([comment + "\n" for comment in comments])
+            # They are laid out in one way only; what counts is that they have been.
+            self._known[(self._style, comments)] = None
         return joined_shares(page, self._style, tuple(shares))
 
     def _share(self, part):

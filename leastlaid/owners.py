@@ -54,13 +54,18 @@ def marked(text):
     return program, found
 
 
-def owned(text):
-    """Return the list of all comments of a text, each with its place, its OWNER and its side."""
+def owned_among(text, marks):
+    """Return what owned tells of a text by what is marked in it."""
     return [
         (written(word), place_of(text, begin), index, mark)
-        for mark, word, begin, index in marked(text)[1]
+        for mark, word, begin, index in marks
         if mark in ("ahead", "behind")
     ]
+
+
+def owned(text):
+    """Return the list of all comments of a text, each with its place, its OWNER and its side."""
+    return owned_among(text, marked(text)[1])
 
 
 def _empty_lines(text, begin):
@@ -82,9 +87,8 @@ def _first_begins(marks):
     return found
 
 
-def blank_lines(text):
-    """Return the dict from the words ahead of which empty lines are counted to how many there are."""
-    program, marks = marked(text)
+def blank_lines_among(text, program, marks):
+    """Return what blank_lines tells of a text by its program and what is marked in it."""
     row = row_of(program)
     begins = _first_begins(marks)
     counted = [
@@ -94,3 +98,9 @@ def blank_lines(text):
     if program and len(row) in begins:
         counted.append(len(row))
     return {index: _empty_lines(text, begins[index]) for index in counted}
+
+
+def blank_lines(text):
+    """Return the dict from the words ahead of which empty lines are counted to how many there are."""
+    program, marks = marked(text)
+    return blank_lines_among(text, program, marks)

@@ -1,7 +1,6 @@
 """Pages: a program with its comments at their OWNERS, and with its empty lines."""
 
-from leastlaid.owners import blank_lines, can_be_behind, owned
-from leastlaid.reading import read_program
+from leastlaid.owners import blank_lines_among, can_be_behind, marked, owned_among
 from leastlaid.rows import row_of, statement_spans, words_of
 from leastlaid.trees import is_program
 from leastlaid.words import is_comment, is_integer
@@ -14,10 +13,10 @@ def _sorted_dict(table):
     return {key: table[key] for key in sorted(table)}
 
 
-def _notes_of(text):
-    """Return the notes of a text: its comments are told in order, so their OWNERS ascend."""
+def _notes_of(comments):
+    """Return the notes of what owned tells: comments are told in order, so their OWNERS ascend."""
     notes = {}
-    for comment, _, index, side in owned(text):
+    for comment, _, index, side in comments:
         ahead, behind = notes.get(index, BARE)
         notes[index] = (ahead + (comment,), behind) if side == "ahead" else (ahead, behind + (comment,))
     return notes
@@ -25,9 +24,10 @@ def _notes_of(text):
 
 def page_of(text):
     """Return the PAGE of a text."""
-    program = read_program(text)
-    counted = blank_lines(text)
-    return program, _notes_of(text), {index: counted[index] for index in counted if counted[index] > 0}
+    program, marks = marked(text)
+    notes = _notes_of(owned_among(text, marks))
+    counted = blank_lines_among(text, program, marks)
+    return program, notes, {index: counted[index] for index in counted if counted[index] > 0}
 
 
 def _are_comments(thing):

@@ -2,10 +2,10 @@
 
 from leastlaid.docs import inner_documents
 from leastlaid.owners import is_line_comment
+from leastlaid.pages import BARE
 from leastlaid.pieces import pieces_of
 from leastlaid.styles import named
 
-BARE = ((), ())
 HARD = ("hard",)
 LINE = ("line", " ")
 BLANK = ("text", " ")

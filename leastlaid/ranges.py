@@ -8,13 +8,16 @@ from leastlaid.rows import row_of, statement_spans
 
 def _statement_places(program):
     """Return the list that has for each word of the ROW, and for the END, the index of its outermost statement."""
-    begins = {begin: True for begin, _, depth, _ in statement_spans(program) if depth == 0}
     row = row_of(program)
+    # An if statement behind else stands within the outermost one.
+    begins = {
+        begin: True for begin, _, depth, is_first in statement_spans(program)
+        if depth == 0 and (is_first or row[begin - 1] != "else")
+    }
     found = []
     place = -1
     for index in range(len(row)):
-        # An if statement behind else stands within the outermost one.
-        if index in begins and (index == 0 or row[index - 1] != "else"):
+        if index in begins:
             place += 1
         found.append(place)
     return found + [place + 1]

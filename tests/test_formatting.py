@@ -148,7 +148,7 @@ class SamePage(unittest.TestCase):
     """Point 7: the text hangs on the page and the style alone, and is read as this page."""
 
     def test_any_texts(self):
-        for number in range(900):
+        for number in range(500):
             text, page = any_text(7000 + number)
             style = any_style(random.Random(number))
             found = formatted(text, style)
@@ -276,7 +276,7 @@ class Papers(unittest.TestCase):
         self.assertIs(is_paper(page, style, other, thing), expected)
 
     def test_they_are_tables(self):
-        for number in range(60):
+        for number in range(30):
             page = any_text(400 + number)[1]
             style = any_style(random.Random(number))
             paper = paper_of(page, style)

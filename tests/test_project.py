@@ -182,7 +182,7 @@ class Led(unittest.TestCase):
         self.assertEqual(caught.exception.path, "no/where")
 
     def test_any_rows(self):
-        for number in range(40):
+        for number in range(20):
             source = random.Random(3500 + number)
             files = any_files(source)
             style = source.choice((STYLE, NARROW))

@@ -116,7 +116,7 @@ class Bundles(unittest.TestCase):
 
     def test_any_texts(self):
         several = 0
-        for number in range(800):
+        for number in range(400):
             text = any_text(3000 + number, deep=1, blocks=3)[0]
             found = bundles(text)
             self.assertEqual(found, plain_bundles(text), text)
@@ -125,7 +125,7 @@ class Bundles(unittest.TestCase):
             for line, string in enumerate(text.split("\n")):
                 self.assertIn(held.count(line), (0, 1))
                 self.assertTrue(line in held or not string.strip())
-        self.assertGreater(several, 100)
+        self.assertGreater(several, 50)
 
     def test_the_list_is_the_callers(self):
         found = bundles(TEXT)
@@ -186,7 +186,7 @@ class FormatBundles(unittest.TestCase):
         self.assertEqual(self.check("\n# x\n\n# y", STYLE, (0,)), "# x\n# y\n")
 
     def test_each_lot_of_any_texts(self):
-        for number in range(250):
+        for number in range(110):
             text, page = any_text(3900 + number, deep=1, blocks=2)
             style = any_style(random.Random(number))
             many = len(bundles(text))
